@@ -1,0 +1,39 @@
+package cadence
+
+import (
+	"errors"
+
+	"cadence/api"
+	"cadence/fault"
+)
+
+// answer turns what the passes found into an error number and a place.
+func answer(err error) (api.Errno, int) {
+	var f fault.Fault
+	if !errors.As(err, &f) {
+		return api.OK, 0
+	}
+	return number(err), f.Place
+}
+
+func number(err error) api.Errno {
+	switch {
+	case errors.Is(err, fault.Long):
+		return api.ErrLong
+	case errors.Is(err, fault.Syntax):
+		return api.ErrSyntax
+	case errors.Is(err, fault.Deep):
+		return api.ErrDeep
+	case errors.Is(err, fault.Name):
+		return api.ErrName
+	case errors.Is(err, fault.Type):
+		return api.ErrType
+	case errors.Is(err, fault.Clock):
+		return api.ErrClock
+	case errors.Is(err, fault.Define):
+		return api.ErrDefine
+	case errors.Is(err, fault.Cause):
+		return api.ErrCause
+	}
+	return api.ErrLimit
+}
