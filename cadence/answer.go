@@ -9,10 +9,11 @@ import (
 
 // answer turns what the passes found into an error number and a place.
 func answer(err error) (api.Errno, int) {
-	var f fault.Fault
-	if !errors.As(err, &f) {
+	if err == nil {
 		return api.OK, 0
 	}
+	var f fault.Fault
+	errors.As(err, &f)
 	return number(err), f.Place
 }
 
@@ -34,6 +35,10 @@ func number(err error) api.Errno {
 		return api.ErrDefine
 	case errors.Is(err, fault.Cause):
 		return api.ErrCause
+	case errors.Is(err, fault.Limit):
+		return api.ErrLimit
+	case errors.Is(err, fault.Image):
+		return api.ErrImage
 	}
-	return api.ErrLimit
+	return api.ErrInput
 }

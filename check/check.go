@@ -2,6 +2,7 @@
 package check
 
 import (
+	"cadence/facts"
 	"cadence/fault"
 	"cadence/tree"
 )
@@ -47,32 +48,15 @@ func (s pass) run(p *tree.Program) error {
 	return least
 }
 
-// scope is a node and what it may call.
+// scope is what is asked of one node.
 type scope struct {
-	earlier []*tree.Node
-	node    *tree.Node
+	facts.Scope
 }
 
 func eachNode(ask func(s scope, wrong report)) func(p *tree.Program, wrong report) {
 	return func(p *tree.Program, wrong report) {
-		for i, n := range p.Nodes {
-			ask(scope{earlier: p.Nodes[:i], node: n}, wrong)
+		for i := range p.Nodes {
+			ask(scope{facts.ScopeOf(p, i)}, wrong)
 		}
 	}
-}
-
-// called finds the node that a name calls.
-func (s scope) called(name tree.Name) (*tree.Node, bool) {
-	for _, n := range s.earlier {
-		if n.Name.Text == name.Text {
-			return n, true
-		}
-	}
-	return nil, false
-}
-
-// index finds a variable; only in the pass for names may there be none.
-func (s scope) index(name tree.Name) int {
-	i, _ := s.node.Find(name.Text)
-	return i
 }

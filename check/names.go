@@ -3,25 +3,25 @@ package check
 import "cadence/tree"
 
 func askNames(s scope, wrong report) {
-	if _, twice := s.called(s.node.Name); twice {
-		wrong(s.node.Name.Place)
+	if _, twice := s.Called(s.Node.Name); twice {
+		wrong(s.Node.Name.Place)
 	}
-	for i, v := range s.node.Vars {
-		if first, _ := s.node.Find(v.Name.Text); first < i {
+	for i, v := range s.Node.Vars {
+		if first, _ := s.Node.Find(v.Name.Text); first < i {
 			wrong(v.Name.Place)
 		}
 		if v.On.Sign != tree.Always && !s.has(v.On.Of) {
 			wrong(v.On.Of.Place)
 		}
 	}
-	for _, q := range s.node.Equations {
+	for _, q := range s.Node.Equations {
 		for _, name := range q.Left {
-			if !s.has(name) || s.index(name) < s.node.Inputs {
+			if !s.has(name) || s.Index(name) < s.Node.Inputs {
 				wrong(name.Place)
 			}
 		}
 	}
-	s.node.Walk(func(q tree.Equation, e *tree.Expr) bool {
+	s.Node.Walk(func(q tree.Equation, e *tree.Expr) bool {
 		if e.NamesVariable() && !s.has(e.Name) {
 			wrong(e.Name.Place)
 		}
@@ -33,7 +33,7 @@ func askNames(s scope, wrong report) {
 }
 
 func (s scope) has(name tree.Name) bool {
-	_, ok := s.node.Find(name.Text)
+	_, ok := s.Node.Find(name.Text)
 	return ok
 }
 
@@ -46,6 +46,6 @@ func uses(q tree.Equation, e *tree.Expr) int {
 }
 
 func (s scope) fits(call *tree.Expr, outputs int) bool {
-	n, ok := s.called(call.Name)
-	return ok && n.Inputs == len(call.Args) && n.Outputs == outputs
+	called, ok := s.Called(call.Name)
+	return ok && called.Node.Inputs == len(call.Args) && called.Node.Outputs == outputs
 }

@@ -3,17 +3,17 @@ package check
 import "cadence/tree"
 
 func askTypes(s scope, wrong report) {
-	for _, v := range s.node.Vars {
+	for _, v := range s.Node.Vars {
 		if v.On.Sign != tree.Always && s.declared(v.On.Of) != tree.Bool {
 			wrong(v.On.Place)
 		}
 	}
-	for _, q := range s.node.Equations {
+	for _, q := range s.Node.Equations {
 		if !s.holds(q) {
 			wrong(q.Place)
 		}
 	}
-	s.node.Walk(func(_ tree.Equation, e *tree.Expr) bool {
+	s.Node.Walk(func(_ tree.Equation, e *tree.Expr) bool {
 		if samples(e) && s.declared(e.Name) != tree.Bool {
 			wrong(e.Name.Place)
 		}
@@ -30,7 +30,7 @@ func samples(e *tree.Expr) bool {
 }
 
 func (s scope) declared(name tree.Name) tree.Type {
-	return s.node.Vars[s.index(name)].Type
+	return s.Node.Vars[s.Index(name)].Type
 }
 
 // holds tells whether the two sides of an equation have the same types.
@@ -38,8 +38,8 @@ func (s scope) holds(q tree.Equation) bool {
 	if len(q.Left) == 1 {
 		return s.declared(q.Left[0]) == s.typeOf(q.Right)
 	}
-	n, _ := s.called(q.Right.Name)
-	for i, r := range n.Results() {
+	called, _ := s.Called(q.Right.Name)
+	for i, r := range called.Node.Results() {
 		if s.declared(q.Left[i]) != r.Type {
 			return false
 		}
@@ -53,8 +53,8 @@ func (s scope) typeOf(e *tree.Expr) tree.Type {
 	case tree.Variable:
 		return s.declared(e.Name)
 	case tree.Call:
-		n, _ := s.called(e.Name)
-		return n.Results()[0].Type
+		called, _ := s.Called(e.Name)
+		return called.Node.Results()[0].Type
 	case tree.When, tree.Whenot, tree.Merge:
 		return s.typeOf(e.Args[0])
 	case tree.If, tree.Fby:
@@ -99,9 +99,9 @@ func (s scope) alike(args []*tree.Expr) bool {
 }
 
 func (s scope) inputsFit(call *tree.Expr) bool {
-	n, _ := s.called(call.Name)
+	called, _ := s.Called(call.Name)
 	for i, a := range call.Args {
-		if s.typeOf(a) != n.Vars[i].Type {
+		if s.typeOf(a) != called.Node.Vars[i].Type {
 			return false
 		}
 	}

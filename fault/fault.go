@@ -1,4 +1,4 @@
-// Package fault: what can be wrong with a program, as error values.
+// Package fault: what can be wrong with what is handed in, as error values.
 package fault
 
 import (
@@ -17,9 +17,12 @@ var (
 	Define = errors.New("a variable that is not defined just once")
 	Cause  = errors.New("a variable that hangs on itself")
 	Limit  = errors.New("more memory than there may be")
+	Image  = errors.New("no image")
+	Input  = errors.New("no input of this machine")
 )
 
-// Fault is one thing that is wrong, and its place in the program's text.
+// Fault is one thing that is wrong, and its place in the program's text, in the
+// image or among the inputs.
 type Fault struct {
 	Kind  error
 	Place int
@@ -37,7 +40,7 @@ func (f Fault) Error() string {
 // Unwrap gives the kind, so that errors.Is finds it.
 func (f Fault) Unwrap() error { return f.Kind }
 
-// Pass is an error and the pass over the program that came upon it.
+// Pass is an error and the pass that came upon it.
 type Pass struct {
 	Name string
 	Err  error
