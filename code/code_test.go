@@ -2,6 +2,7 @@ package code
 
 import (
 	"errors"
+	"hash/fnv"
 	"reflect"
 	"slices"
 	"testing"
@@ -63,7 +64,7 @@ func TestUnpackRefuses(t *testing.T) {
 	row := func(rest ...byte) []byte {
 		return append(head(0, 1, 2, 1, 0, 0, 0, 0, 0, 0, 0, 0), rest...)
 	}
-	if _, err := Unpack(row()); err != nil {
+	if _, err := Unpack(seal(row())); err != nil {
 		t.Errorf("an empty row: %v", err)
 	}
 	for _, c := range []struct {
@@ -73,8 +74,8 @@ func TestUnpackRefuses(t *testing.T) {
 	}{
 		{"nothing", nil, 0},
 		{"half a mark", []byte(mark[:2]), 2},
-		{"another mark", []byte("cdn2\x00\x00\x00\x00"), 4},
-		{"another mark", []byte("Cdn1\x00\x00\x00\x00"), 1},
+		{"another mark", []byte("cdn1\x00\x00\x00\x00"), 4},
+		{"another mark", []byte("Cdn2\x00\x00\x00\x00"), 1},
 		{"a mark alone", head(), 4},
 		{"an input of no type", head(1, 2, 0, 1, 0), 6},
 		{"no room for the inputs", head(2, 0, 0, 0, 1, 0), 9},
@@ -92,7 +93,7 @@ func TestUnpackRefuses(t *testing.T) {
 		{"two where three are taken", row(byte(Load), 0, byte(Load), 0, byte(If), byte(Store), 0), 21},
 		{"something left over", row(byte(Load), 0), 18},
 	} {
-		got, err := Unpack(c.image)
+		got, err := Unpack(seal(c.image))
 		var f fault.Fault
 		if got != nil || !errors.Is(err, fault.Image) || !errors.As(err, &f) || f.Place != c.place {
 			t.Errorf("%s: %v, %v, want a fault at %d", c.why, got, err, c.place)
@@ -100,16 +101,52 @@ func TestUnpackRefuses(t *testing.T) {
 	}
 }
 
+func TestUnpackRefusesAnotherSum(t *testing.T) {
+	image := Pack(sample())
+	refused := func(image []byte, place int) {
+		t.Helper()
+		got, err := Unpack(image)
+		var f fault.Fault
+		if got != nil || !errors.Is(err, fault.Image) || !errors.As(err, &f) || f.Place != place {
+			t.Errorf("Unpack(%v) = %v, %v, want a fault at %d", image, got, err, place)
+		}
+	}
+	for i := range image {
+		refused(image[:i], max(0, i-wide))
+		for d := range 255 {
+			changed := slices.Clone(image)
+			changed[i] += byte(d + 1)
+			refused(changed, len(image)-wide)
+		}
+	}
+	for v := range 256 {
+		refused(append(slices.Clone(image), byte(v)), len(image)+1-wide)
+	}
+}
+
+func TestSum(t *testing.T) {
+	for _, s := range []string{"", "\x00", "a", mark, string(Pack(sample()))} {
+		h := fnv.New64a()
+		h.Write([]byte(s))
+		if got := sum([]byte(s)); uint64(got) != h.Sum64() {
+			t.Errorf("the sum of %q is %d, want %d", s, uint64(got), h.Sum64())
+		}
+	}
+}
+
 func TestUnpackBoundsTheLength(t *testing.T) {
 	image := Pack(&Code{Slots: 1})
-	step := []byte{byte(Load), 0, byte(Store), 0}
-	for len(image)+len(step) <= MaxImage {
-		image = append(image, step...)
+	image = image[:len(image)-wide]
+	for len(image)+wide+4 <= MaxImage {
+		image = append(image, byte(Load), 0, byte(Store), 0)
 	}
-	if c, err := Unpack(image); err != nil || c.Depth != 1 {
-		t.Errorf("%d bytes: %v", len(image), err)
+	for len(image)+wide < MaxImage {
+		image = slices.Insert(image, len(image)-2, byte(Not))
 	}
-	if _, err := Unpack(append(image, step...)); !errors.Is(err, fault.Image) {
+	if c, err := Unpack(seal(image)); err != nil || c.Depth != 1 || len(seal(image)) != MaxImage {
+		t.Errorf("%d bytes: %v", len(seal(image)), err)
+	}
+	if _, err := Unpack(seal(slices.Insert(image, len(image)-2, byte(Not)))); !errors.Is(err, fault.Image) {
 		t.Errorf("more than %d bytes: %v", MaxImage, err)
 	}
 }

@@ -1,7 +1,7 @@
 package code
 
 // mark begins every image, and changes with the form of what follows it.
-const mark = "cdn1"
+const mark = "cdn2"
 
 // MaxImage bounds what is taken for an image. The greatest program's image
 // stays far below: it has at most 60 calls, of nodes of less than 1200 bytes.
@@ -10,7 +10,7 @@ const MaxImage = 1 << 20
 const wide = 8 // bytes of a number
 
 // Pack gives the code's form as bytes: the mark; the inputs, each with its
-// type; how many outputs and slots there are; the cells; the row, to the end.
+// type; how many outputs and slots there are; the cells; the row; the sum.
 func Pack(c *Code) []byte {
 	b := append([]byte(mark), byte(len(c.Bools)))
 	for _, isBool := range c.Bools {
@@ -23,7 +23,7 @@ func Pack(c *Code) []byte {
 	for _, i := range c.Row {
 		b = appendInstruction(b, i)
 	}
-	return b
+	return seal(b)
 }
 
 func flag(set bool) byte {

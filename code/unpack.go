@@ -5,26 +5,19 @@ import (
 	"cadence/fault"
 )
 
-// Unpack reads what Pack wrote. Of other bytes it takes only those whose row
-// can be run: known ops, slots and cells that are there, and as much on the
-// stack as is taken from it.
+// Unpack reads what Pack wrote. Of other bytes it takes only those that have
+// the right sum and whose row can be run: a sum can be made for any bytes.
 func Unpack(image []byte) (*Code, error) {
-	r := reader{image: image}
-	if len(image) > MaxImage {
-		r.fail()
+	body, err := unsealed(image)
+	if err != nil {
+		return nil, fault.In("loading", err)
 	}
+	r := reader{image: body}
 	for i := range len(mark) {
 		r.require(r.byte() == mark[i])
 	}
 	c := r.head()
-	for depth := 0; r.err == nil && (r.at < len(image) || depth > 0); {
-		i := r.instruction(c)
-		depth -= shapes[i.Op].takes
-		r.require(depth >= 0)
-		depth += shapes[i.Op].gives
-		c.Depth = max(c.Depth, depth)
-		c.Row = append(c.Row, i)
-	}
+	r.row(c)
 	if r.err != nil {
 		return nil, fault.In("loading", r.err)
 	}
@@ -88,6 +81,19 @@ func (r *reader) head() *Code {
 		c.Cells = append(c.Cells, r.number())
 	}
 	return c
+}
+
+// row reads to the end. It takes known ops, slots and cells that are there,
+// and no more from the stack than lies on it, so that running it can't fail.
+func (r *reader) row(c *Code) {
+	for depth := 0; r.err == nil && (r.at < len(r.image) || depth > 0); {
+		i := r.instruction(c)
+		depth -= shapes[i.Op].takes
+		r.require(depth >= 0)
+		depth += shapes[i.Op].gives
+		c.Depth = max(c.Depth, depth)
+		c.Row = append(c.Row, i)
+	}
 }
 
 func (r *reader) instruction(c *Code) Instruction {
